@@ -1,0 +1,1 @@
+"""Archrow: arcs over points of a row, none crossing."""
