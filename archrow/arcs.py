@@ -1,6 +1,6 @@
 """Rows of points with ties, and the lists of ties that are sets."""
 
-from archrow.errors import NoRow, NoTie
+from archrow.errors import NoRow, NoSet, NoTie
 
 
 def row_of(many, ties):
@@ -66,3 +66,15 @@ def fault_at(row, ties, k):
 def share_a_point(one, other):
     """Tell whether two ties have a point in common."""
     return one[0] in other or one[1] in other
+
+
+def check_set(row, ties):
+    """Refuse a list of tuples that is no set of the row."""
+    if not is_set(row, ties):
+        raise NoSet("a set is a sorted list of ties of the row, none crossing, no point twice")
+
+
+def row_beside(row, tie):
+    """Tell the row with only those ties that can stand in one set with this one."""
+    many, ties = row
+    return (many, [other for other in ties if not share_a_point(tie, other) and not arcs_cross(tie, other)])

@@ -1,11 +1,8 @@
-"""The most ties that can be kept at once, of a row and of its stretches, with papers.
-
-A stretch from i to before j has its number at [i][j - i] of a table or a paper.
-Its first point either stays free or is tied to one point k of it; what is left
-then are one or two lesser stretches, and every set comes about so in just one way.
-"""
+"""The most ties that can be kept at once, of a row and of its stretches, with papers."""
 
 from archrow.errors import NoStretch
+from archrow.stretches import best_choices, first_greatest, greatest_table, paper_holds
+from archrow.stretches import parts_left, partners_of, stretches_rising, ways_by
 
 
 def most_ties(row):
@@ -18,30 +15,17 @@ def most_of(row, i, j):
     if not 0 <= i <= j <= row[0]:
         raise NoStretch("a stretch goes from a place of the row to the same or a later one")
     table = table_of(row)
-    return (table[i][j - i], first_set(partners_of(row), table, i, j))
+    return (table[i][j - i], first_greatest(row, one_each(row), table, i, j))
 
 
 def table_of(row):
     """Tell, for each i, the most ties of the stretches from i to before i, i + 1 and so on."""
-    many = row[0]
-    partners = partners_of(row)
-    table = [[0] for i in range(many + 1)]
-    for i in range(many - 1, -1, -1):
-        for j in range(i + 1, many + 1):
-            table[i].append(least_number(partners, table, i, j))
-    return table
+    return greatest_table(row, one_each(row))
 
 
 def paper_shows(row, paper):
     """Tell whether a paper of the row is let by."""
-    if not has_shape(paper, row[0]) or any([number < 0 for numbers in paper for number in numbers]):
-        return False
-    partners = partners_of(row)
-    for i in range(row[0]):
-        for j in range(i + 1, row[0] + 1):
-            if paper[i][j - i] < least_number(partners, paper, i, j):
-                return False
-    return True
+    return paper_holds(row, one_each(row), paper)
 
 
 def always_tied(row):
@@ -58,88 +42,24 @@ def how_many_most(row):
     """Tell how many sets have the most ties."""
     many = row[0]
     partners = partners_of(row)
+    worth = one_each(row)
     table = table_of(row)
     counts = [[1] for i in range(many + 1)]
-    for i in range(many - 1, -1, -1):
-        for j in range(i + 1, many + 1):
-            counts[i].append(count_most(partners, table, counts, i, j))
+    for i, j in stretches_rising(many):
+        counts[i].append(ways_by(counts, best_choices(partners, worth, table, i, j), i, j))
     return counts[0][many]
 
 
-def partners_of(row):
-    """Tell for each point the greater points that it is tied to, rising."""
-    many, ties = row
-    partners = [[] for point in range(many)]
-    for a, b in ties:
-        partners[a].append(b)
-    return partners
-
-
-def number_with(table, i, k, j):
-    """Tell what a table gives the stretch from i to before j where i is tied to k."""
-    return 1 + table[i + 1][k - i - 1] + table[k + 1][j - k - 1]
-
-
-def least_number(partners, table, i, j):
-    """Tell the least number that a stretch with points can have beside those of lesser ones."""
-    numbers = [number_with(table, i, k, j) for k in partners[i] if k < j]
-    return max(numbers + [table[i + 1][j - i - 1]])
-
-
-def has_shape(paper, many):
-    """Tell whether a paper has as many lists, and each as many numbers, as a table."""
-    return [len(numbers) for numbers in paper] == list(range(many + 1, 0, -1))
-
-
-def best_choices(partners, table, i, j):
-    """Tell what sets with the most ties do with a stretch's first point: tie it to k, or None.
-
-    None stands last, as a set that ties the first point comes before any that leaves it free.
-    """
-    best = table[i][j - i]
-    choices = [k for k in partners[i] if k < j and number_with(table, i, k, j) == best]
-    if table[i + 1][j - i - 1] == best:
-        choices.append(None)
-    return choices
-
-
-def parts_left(i, k, j):
-    """Tell the stretches that are left of one whose first point is tied to k, or free (None)."""
-    if k is None:
-        return [(i + 1, j)]
-    return [(i + 1, k), (k + 1, j)]
-
-
-def first_set(partners, table, i, j):
-    """Tell the first set of a stretch that has the most ties."""
-    found = []
-    waiting = [(i, j)]
-    while waiting:
-        low, high = waiting.pop()
-        if low < high:
-            k = best_choices(partners, table, low, high)[0]
-            if k is not None:
-                found.append((low, k))
-            # The leftmost part is to be taken up next, so that the ties come about sorted.
-            waiting.extend(parts_left(low, k, high)[::-1])
-    return found
-
-
-def count_most(partners, table, counts, i, j):
-    """Tell how many sets of a stretch with points have its most ties."""
-    total = 0
-    for k in best_choices(partners, table, i, j):
-        ways = 1
-        for low, high in parts_left(i, k, j):
-            ways = ways * counts[low][high - low]
-        total += ways
-    return total
+def one_each(row):
+    """Tell the worth by which a set's worth is how many ties it has."""
+    return {tie: 1 for tie in row[1]}
 
 
 def choices_met(row):
     """Tell (point, choice) for all that sets with the most ties do, as best_choices tells it."""
     many = row[0]
     partners = partners_of(row)
+    worth = one_each(row)
     table = table_of(row)
     choices = []
     reached = set()
@@ -148,7 +68,7 @@ def choices_met(row):
     for i in range(many):
         for j in range(i + 1, many + 1):
             if (i, j) in reached:
-                for k in best_choices(partners, table, i, j):
+                for k in best_choices(partners, worth, table, i, j):
                     choices.append((i, k))
                     for part in parts_left(i, k, j):
                         reached.add(part)

@@ -20,6 +20,11 @@ def all_sets(row):
     return sets
 
 
+def sets_in_order(row):
+    """Every set of a row, in the order of lists."""
+    return sorted(all_sets(row))
+
+
 def best_sets(row):
     """Every set of a row that has the most ties, in the order of lists."""
     sets = all_sets(row)
@@ -101,9 +106,52 @@ def first_best(row):
     return held
 
 
-def rule_of_papers(row, paper):
+def weight_of(row, weights, held):
+    """The weight of a set."""
+    return sum(weight for tie, weight in zip(row[1], weights) if tie in held)
+
+
+def some_weights(seed, row, low, high):
+    """A weight for each tie, always the same for a seed."""
+    chance = Random(seed)
+    return [chance.randint(low, high) for tie in row[1]]
+
+
+def by_number(row, weights):
+    """For each number of ties how many sets have it and their greatest weight, from the last point backward."""
+    known = dict(zip(row[1], weights))
+
+    @lru_cache(maxsize=None)
+    def reckon(i, j):
+        if i >= j:
+            return ((1, 0),)
+        found = dict(enumerate(reckon(i, j - 1)))
+        for k in range(i, j - 1):
+            if (k, j - 1) in known:
+                for low, (count, weight) in enumerate(reckon(i, k)):
+                    for high, (others, more) in enumerate(reckon(k + 1, j - 1)):
+                        sums = weight + more + known[k, j - 1]
+                        old = found.get(low + high + 1, (0, sums))
+                        found[low + high + 1] = (old[0] + count * others, max(old[1], sums))
+        return tuple(found[size] for size in range(len(found)))
+
+    return list(reckon(0, row[0]))
+
+
+def sizes_plainly(row):
+    """How many sets have each number of ties."""
+    return [count for count, weight in by_number(row, [0] * len(row[1]))]
+
+
+def weights_plainly(row, weights):
+    """The greatest weight for each number of ties."""
+    return [weight for count, weight in by_number(row, weights)]
+
+
+def rule_of_papers(row, paper, weights=None):
     """Whether a paper is let by, word for word as the document has it."""
     many, ties = row
+    weighed = list(zip(ties, weights or [1] * len(ties)))
     if len(paper) != many + 1 or any(len(paper[i]) != many + 1 - i for i in range(many + 1)):
         return False
     told = {(i, j): paper[i][j - i] for i in range(many + 1) for j in range(i, many + 1)}
@@ -111,4 +159,7 @@ def rule_of_papers(row, paper):
         return False
     if any(told[i, j] < told[i + 1, j] for i, j in told if i < j):
         return False
-    return all(told[i, j] >= 1 + told[i + 1, k] + told[k + 1, j] for i, k in ties for j in range(k + 1, many + 1))
+    return all(
+        told[i, j] >= weight + told[i + 1, k] + told[k + 1, j]
+        for (i, k), weight in weighed for j in range(k + 1, many + 1)
+    )

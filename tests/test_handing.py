@@ -4,11 +4,20 @@ import unittest
 from copy import deepcopy
 
 from archrow.arcs import do_cross, first_fault, is_set, row_of
-from archrow.errors import NoRow, NoStretch, NoTie
+from archrow.counted import by_size, count_sets, count_with, how_many_begin, next_set, set_at, set_number
+from archrow.errors import NoGap, NoNumber, NoPlace, NoRow, NoSet, NoStretch, NoTie, NoWeights
 from archrow.kept import always_tied, how_many_most, most_of, most_ties, paper_shows, table_of
+from archrow.kinds import best_kinds, most_of_kinds, most_with, row_of_kinds
+from archrow.weights import greatest_weights, heaviest, heaviest_of, weights_show
+from archrow.whole import count_whole, fewest_cuts, longest_whole, whole_set
 from plainly import blocks_row, large_row
 
 ROW = (6, [(0, 1), (0, 5), (1, 2), (2, 4), (3, 4)])
+FULL = (4, [(0, 1), (0, 3), (1, 2), (2, 3)])
+KINDS = [1, 2, 1, 3, 2, 2]
+PAIRS = [(2, 1), (1, 2), (3, 3), (7, 1)]
+
+TRUTHS = (do_cross, is_set, paper_shows, weights_show)
 
 ASKED = [
     (row_of, [6, [(5, 0), (1, 0), (0, 1), (2, 1), (4, 3), (2, 4)]]),
@@ -31,6 +40,53 @@ ASKED = [
     (always_tied, [(3, [(0, 1), (1, 2)])]),
     (always_tied, [(0, [])]),
     (how_many_most, [ROW]),
+    (heaviest, [ROW, [3, -1, 0, 2, 2]]),
+    (heaviest, [ROW, [-3, -1, 0, -2, -2]]),
+    (heaviest, [(0, []), []]),
+    (heaviest_of, [ROW, [3, -1, 0, 2, 2], 0]),
+    (heaviest_of, [ROW, [3, -1, 0, 2, 2], 2]),
+    (heaviest_of, [ROW, [3, -1, 0, 2, 2], 9]),
+    (heaviest_of, [(0, []), [], 0]),
+    (greatest_weights, [ROW, [3, -1, 0, 2, 2]]),
+    (greatest_weights, [(0, []), []]),
+    (weights_show, [ROW, [1, 1, 1, 1, 1], table_of(ROW)]),
+    (weights_show, [ROW, [3, -1, 0, 2, 2], [[0, 1], [], [5]]]),
+    (count_sets, [ROW]),
+    (by_size, [ROW]),
+    (by_size, [(0, [])]),
+    (count_with, [ROW, (2, 4)]),
+    (set_number, [ROW, [(0, 5), (1, 2), (3, 4)]]),
+    (set_number, [ROW, []]),
+    (set_at, [ROW, 4]),
+    (set_at, [ROW, 0]),
+    (set_at, [(0, []), 0]),
+    (next_set, [ROW, []]),
+    (next_set, [ROW, [(0, 1)]]),
+    (next_set, [ROW, [(0, 5), (1, 2), (3, 4)]]),
+    (next_set, [ROW, [(3, 4)]]),
+    (how_many_begin, [ROW, [(0, 5)]]),
+    (how_many_begin, [ROW, []]),
+    (row_of_kinds, [KINDS, PAIRS, 0]),
+    (row_of_kinds, [KINDS, PAIRS, 3]),
+    (row_of_kinds, [[], [], 0]),
+    (most_of_kinds, [KINDS, PAIRS, 1]),
+    (most_of_kinds, [[], [], 1]),
+    (best_kinds, [KINDS, PAIRS, 0, 3]),
+    (best_kinds, [KINDS, PAIRS, 9, 0]),
+    (most_with, [KINDS, PAIRS, 0, 0, 1]),
+    (most_with, [KINDS, PAIRS, 0, 6, 1]),
+    (whole_set, [ROW]),
+    (whole_set, [FULL]),
+    (whole_set, [(0, [])]),
+    (whole_set, [(1, [])]),
+    (count_whole, [ROW]),
+    (count_whole, [FULL]),
+    (count_whole, [(1, [])]),
+    (longest_whole, [ROW]),
+    (longest_whole, [(3, [])]),
+    (fewest_cuts, [ROW]),
+    (fewest_cuts, [(3, [(1, 2)])]),
+    (fewest_cuts, [(0, [])]),
 ]
 
 REFUSED = [
@@ -41,6 +97,23 @@ REFUSED = [
     (NoTie, do_cross, [(0, 3), (-1, 1)]),
     (NoStretch, most_of, [ROW, 2, 1]),
     (NoStretch, most_of, [ROW, 0, 7]),
+    (NoWeights, heaviest, [ROW, [1, 2]]),
+    (NoWeights, heaviest_of, [ROW, [1, 2, 3, 4, 5, 6], -1]),
+    (NoNumber, heaviest_of, [ROW, [1, 2, 3, 4, 5], -1]),
+    (NoWeights, greatest_weights, [ROW, []]),
+    (NoWeights, weights_show, [ROW, [1], [[0]]]),
+    (NoTie, count_with, [ROW, (1, 0)]),
+    (NoSet, set_number, [ROW, [(2, 4), (0, 1)]]),
+    (NoNumber, set_at, [ROW, -1]),
+    (NoNumber, set_at, [ROW, 10 ** 40]),
+    (NoSet, next_set, [ROW, [(0, 1), (1, 2)]]),
+    (NoSet, how_many_begin, [ROW, [(5, 0)]]),
+    (NoGap, row_of_kinds, [KINDS, PAIRS, -1]),
+    (NoGap, most_of_kinds, [KINDS, PAIRS, -1]),
+    (NoGap, best_kinds, [KINDS, PAIRS, -1, -1]),
+    (NoPlace, best_kinds, [KINDS, PAIRS, 0, 6]),
+    (NoGap, most_with, [KINDS, PAIRS, -1, 9, 1]),
+    (NoPlace, most_with, [KINDS, PAIRS, 0, 7, 1]),
 ]
 
 
@@ -115,10 +188,10 @@ class ToldTest(unittest.TestCase):
 
     def test_numbers_are_no_truths(self):
         for deed, given in ASKED:
-            if deed not in (do_cross, is_set, paper_shows):
+            if deed not in TRUTHS:
                 self.assertNotIn(bool, kinds_in(deed(*given)), deed.__name__)
         for deed, given in ASKED:
-            if deed in (do_cross, is_set, paper_shows):
+            if deed in TRUTHS:
                 self.assertIs(type(deed(*given)), bool, deed.__name__)
 
     def test_a_told_thing_can_be_handed_in(self):
@@ -127,6 +200,13 @@ class ToldTest(unittest.TestCase):
         self.assertIs(is_set(row, most_of(row, 1, 5)[1]), True)
         self.assertIs(paper_shows(row, table_of(row)), True)
         self.assertEqual(row_of(how_many_most(row), []), (how_many_most(row), []))
+        weights = table_of(row)[2]
+        self.assertEqual(len(greatest_weights(row, weights)), most_ties(row)[0] + 1)
+        found = heaviest(row, weights)[1]
+        self.assertEqual(set_at(row, set_number(row, found)), found)
+        kinds = fewest_cuts(row)
+        self.assertEqual(row_of_kinds(kinds, row[1], 0)[0], len(kinds))
+        self.assertEqual(next_set(row, set_at(row, count_sets(row) - 2)), set_at(row, count_sets(row) - 1))
 
 
 class BoundsTest(unittest.TestCase):
@@ -139,12 +219,37 @@ class BoundsTest(unittest.TestCase):
             self.assertIs(paper_shows(row, table_of(row)), True)
             self.assertEqual(len(always_tied(row)), 2)
             self.assertGreater(how_many_most(row), 0)
+            weights = [k % 7 - 3 for k in range(300)]
+            self.assertEqual(heaviest(row, weights)[0], max(greatest_weights(row, weights)))
+            self.assertEqual(heaviest_of(row, weights, 3)[0], greatest_weights(row, weights)[3])
+            self.assertIs(weights_show(row, [1] * 300, table_of(row)), True)
+            self.assertEqual(sum(by_size(row)), count_sets(row))
+            self.assertLess(count_with(row, row[1][150]), count_sets(row))
+            self.assertLess(set_number(row, ties), count_sets(row))
+            self.assertEqual(next_set(row, ties), set_at(row, set_number(row, ties) + 1))
+            self.assertEqual(how_many_begin(row, ties), 1)
+            self.assertEqual((whole_set(row), count_whole(row)), (None, 0))
+            self.assertEqual(fewest_cuts(row)[-1], 40)
+            self.assertLess(longest_whole(row), (40, 40))
+
+    def test_kinds_of_twenty_four_points_with_three_hundred_pairs(self):
+        kinds = list(range(24))
+        pairs = [(a, b) for a in range(24) for b in range(a + 1)]
+        for gap in (0, 1):
+            self.assertEqual(row_of_kinds(kinds, pairs, gap)[0], 24)
+            self.assertEqual(most_of_kinds(kinds, pairs, gap)[0], (24 - gap) // 2)
+            self.assertEqual(best_kinds(kinds, pairs, gap, 5), ((24 - gap) // 2, kinds))
+            self.assertEqual(most_with(kinds, pairs, gap, 24, 0), 12)
 
     def test_nothing_is_refused_somewhat_beyond(self):
         row = row_of(80, [(k, k + d) for d in (1, 2, 3, 4, 5) for k in range(80 - d)])
         self.assertEqual(most_ties(row)[0], 40)
         self.assertIs(paper_shows(row, table_of(row)), True)
         self.assertEqual(always_tied(row), (list(range(80)), []))
+        self.assertEqual(heaviest(row, [1] * len(row[1]))[0], 40)
+        self.assertEqual(len(greatest_weights(row, [0] * len(row[1]))), 41)
+        self.assertEqual(set_number(row, set_at(row, count_sets(row) // 2)), count_sets(row) // 2)
+        self.assertEqual(fewest_cuts(row), [80])
 
 
 def kinds_in(thing):
