@@ -60,6 +60,11 @@ def small_rows():
             yield a_row(seed, many, pairs * (seed + 1) // 12)
 
 
+def full_row(many):
+    """A row with a tie between any two points."""
+    return (many, list(combinations(range(many), 2)))
+
+
 def large_row():
     """A row of forty points with three hundred ties."""
     return a_row(11, 40, 300)
@@ -163,3 +168,68 @@ def rule_of_papers(row, paper, weights=None):
         told[i, j] >= weight + told[i + 1, k] + told[k + 1, j]
         for (i, k), weight in weighed for j in range(k + 1, many + 1)
     )
+
+
+def brackets_plainly(many, ties):
+    """The brackets of a set, point by point."""
+    opened = [a for a, b in ties]
+    closed = [b for a, b in ties]
+    return "".join("(" if point in opened else ")" if point in closed else "." for point in range(many))
+
+
+def shape_plainly(row, ties):
+    """The brackets of a set, points that aren't tied left out."""
+    return "".join(sign for sign in brackets_plainly(row[0], ties) if sign != ".")
+
+
+@lru_cache(maxsize=None)
+def all_shapes(number):
+    """Every shape of so many ties."""
+    if number == 0:
+        return [""]
+    return [
+        f"({inner}){after}"
+        for low in range(number) for inner in all_shapes(low) for after in all_shapes(number - 1 - low)
+    ]
+
+
+def a_shape(seed, number):
+    """A shape of so many ties, always the same for a seed."""
+    chance = Random(seed)
+    signs = ""
+    opened = 0
+    while len(signs) < 2 * number:
+        left = 2 * number - len(signs)
+        up = opened == 0 or (opened < left and chance.random() < 0.5)
+        signs += "(" if up else ")"
+        opened += 1 if up else -1
+    return signs
+
+
+def count_shape_plainly(row, shape):
+    """How many sets are of a shape, reckoned from the last point and the last bracket backward."""
+    known = set(row[1])
+
+    @lru_cache(maxsize=None)
+    def split(brackets):
+        depth = 0
+        for at in range(len(brackets) - 1, -1, -1):
+            depth += 1 if brackets[at] == ")" else -1
+            if depth == 0:
+                return brackets[:at], brackets[at + 1:-1]
+        raise AssertionError("these brackets don't fit")
+
+    @lru_cache(maxsize=None)
+    def reckon(i, j, brackets):
+        if brackets == "":
+            return 1
+        if j - i < len(brackets):
+            return 0
+        before, inner = split(brackets)
+        found = reckon(i, j - 1, brackets)
+        for k in range(i, j - 1):
+            if (k, j - 1) in known:
+                found += reckon(i, k, before) * reckon(k + 1, j - 1, inner)
+        return found
+
+    return reckon(0, row[0], shape)

@@ -4,15 +4,9 @@ from itertools import permutations, product
 from archrow.arcs import do_cross, first_fault, is_set, row_of
 from archrow.errors import NoRow, NoTie
 from plainly import all_sets, clash, small_rows
+from refusing import RefusalTest
 
 FAR = 10 ** 29
-
-
-class RefusalTest(unittest.TestCase):
-    def refuses(self, wrong, deed, *given):
-        with self.assertRaises(wrong) as caught:
-            deed(*given)
-        self.assertIs(type(caught.exception), wrong, given)
 
 
 class RowTest(RefusalTest):

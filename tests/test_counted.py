@@ -1,22 +1,19 @@
 import unittest
-from itertools import combinations, permutations
 from math import comb
 from random import Random
 
 from archrow.arcs import is_set
 from archrow.counted import by_size, count_sets, count_with, how_many_begin, next_set, set_at, set_number
-from archrow.errors import NoNumber, NoSet, NoTie
+from archrow.errors import NoNumber, NoTie
 from archrow.kept import how_many_most, most_ties
-from plainly import a_row, all_rows, all_sets, blocks_row, large_row, sets_in_order, sizes_plainly, small_rows
+from plainly import (
+    a_row, all_rows, all_sets, blocks_row, full_row, large_row, sets_in_order, sizes_plainly, small_rows,
+)
+from refusing import RefusalTest
 
 FAR = 10 ** 29
 CATALAN = [1, 1, 2, 5, 14, 42, 132, 429, 1430, 4862, 16796, 58786, 208012]
 MOTZKIN = [1, 1, 2, 4, 9, 21, 51, 127, 323, 835, 2188, 5798, 15511]
-
-
-def full_row(many):
-    """A row with a tie between any two points."""
-    return (many, list(combinations(range(many), 2)))
 
 
 def some_numbers(row):
@@ -24,29 +21,6 @@ def some_numbers(row):
     count = count_sets(row)
     chance = Random(3)
     return [0, 1, 2, count // 3, count // 2, count - 2, count - 1] + [chance.randrange(count) for k in range(25)]
-
-
-class RefusalTest(unittest.TestCase):
-    def refuses(self, wrong, deed, *given):
-        with self.assertRaises(wrong) as caught:
-            deed(*given)
-        self.assertIs(type(caught.exception), wrong, given)
-
-    def refuses_all_that_is_no_set(self, deed):
-        row = (5, [(0, 1), (0, 3), (1, 2), (1, 4), (2, 3), (2, 4), (3, 4)])
-        tuples = row[1] + [(1, 0), (0, 4), (-1, 5), (2, 2)]
-        sets = all_sets(row)
-        for length in range(4):
-            for ties in permutations(tuples, length):
-                if list(ties) not in sets:
-                    self.refuses(NoSet, deed, row, list(ties))
-        for wrong in [(0, FAR), (-FAR, 0), (FAR, FAR), (5, 6), (0, 5), (4, 3)]:
-            self.refuses(NoSet, deed, row, [wrong])
-            self.refuses(NoSet, deed, row, [(0, 1), wrong])
-            self.refuses(NoSet, deed, (0, []), [wrong])
-        self.refuses(NoSet, deed, row, [(0, 1), (0, 1)])
-        self.refuses(NoSet, deed, row, [(2, 3), (0, 1)])
-        self.refuses(NoSet, deed, row, [(0, 1)] * 400)
 
 
 class CountTest(unittest.TestCase):

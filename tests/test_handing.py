@@ -5,9 +5,13 @@ from copy import deepcopy
 
 from archrow.arcs import do_cross, first_fault, is_set, row_of
 from archrow.counted import by_size, count_sets, count_with, how_many_begin, next_set, set_at, set_number
-from archrow.errors import NoGap, NoNumber, NoPlace, NoRow, NoSet, NoStretch, NoTie, NoWeights
+from archrow.desk import Desk
+from archrow.errors import NoGap, NoNumber, NoPlace, NoRow, NoSet, NoShape, NoStretch, NoText, NoTie, NoWeights
+from archrow.joined import row_turned, rows_joined, set_turned, sets_joined
 from archrow.kept import always_tied, how_many_most, most_of, most_ties, paper_shows, table_of
 from archrow.kinds import best_kinds, most_of_kinds, most_with, row_of_kinds
+from archrow.shapes import count_shape, depth_of, depths_of, nest_of, shape_of, stretches_of
+from archrow.texts import brackets, read_brackets, read_row, show_row
 from archrow.weights import greatest_weights, heaviest, heaviest_of, weights_show
 from archrow.whole import count_whole, fewest_cuts, longest_whole, whole_set
 from plainly import blocks_row, large_row
@@ -87,6 +91,40 @@ ASKED = [
     (fewest_cuts, [ROW]),
     (fewest_cuts, [(3, [(1, 2)])]),
     (fewest_cuts, [(0, [])]),
+    (nest_of, [ROW, [(0, 5), (1, 2), (3, 4)]]),
+    (nest_of, [ROW, []]),
+    (depths_of, [ROW, [(0, 5), (1, 2), (3, 4)]]),
+    (depths_of, [ROW, []]),
+    (depth_of, [ROW, [(0, 5), (1, 2), (3, 4)]]),
+    (depth_of, [ROW, []]),
+    (shape_of, [ROW, [(0, 5), (1, 2), (3, 4)]]),
+    (shape_of, [ROW, []]),
+    (count_shape, [ROW, "()()"]),
+    (count_shape, [ROW, ""]),
+    (count_shape, [ROW, "()()()()"]),
+    (stretches_of, [ROW, [(0, 1), (3, 4)]]),
+    (stretches_of, [ROW, []]),
+    (rows_joined, [ROW, FULL]),
+    (rows_joined, [ROW, (0, [])]),
+    (rows_joined, [(0, []), ROW]),
+    (rows_joined, [(0, []), (0, [])]),
+    (sets_joined, [ROW, FULL, [(0, 1), (3, 4)], [(0, 3), (1, 2)]]),
+    (sets_joined, [ROW, FULL, [(0, 1)], []]),
+    (sets_joined, [ROW, FULL, [], [(0, 3)]]),
+    (sets_joined, [(0, []), (0, []), [], []]),
+    (row_turned, [ROW]),
+    (row_turned, [(2, [(0, 1)])]),
+    (row_turned, [(0, [])]),
+    (set_turned, [ROW, [(0, 1), (3, 4)]]),
+    (set_turned, [ROW, []]),
+    (brackets, [6, [(0, 5), (1, 2), (3, 4)]]),
+    (brackets, [0, []]),
+    (read_brackets, ["(()())"]),
+    (read_brackets, [""]),
+    (show_row, [ROW]),
+    (show_row, [(0, [])]),
+    (read_row, ["6: 0-5 1-2"]),
+    (read_row, ["0:"]),
 ]
 
 REFUSED = [
@@ -114,6 +152,20 @@ REFUSED = [
     (NoPlace, best_kinds, [KINDS, PAIRS, 0, 6]),
     (NoGap, most_with, [KINDS, PAIRS, -1, 9, 1]),
     (NoPlace, most_with, [KINDS, PAIRS, 0, 7, 1]),
+    (NoSet, nest_of, [ROW, [(3, 4), (0, 1)]]),
+    (NoSet, depths_of, [ROW, [(0, 1), (1, 2)]]),
+    (NoSet, depth_of, [ROW, [(0, 1), (0, 1)]]),
+    (NoSet, shape_of, [ROW, [(1, 2), (2, 4)]]),
+    (NoSet, stretches_of, [ROW, [(4, 3)]]),
+    (NoShape, count_shape, [ROW, "())"]),
+    (NoSet, sets_joined, [ROW, FULL, [(3, 4), (0, 1)], [(0, 1)]]),
+    (NoSet, sets_joined, [ROW, FULL, [(0, 1)], [(2, 3), (0, 1)]]),
+    (NoSet, set_turned, [ROW, [(3, 4), (0, 1)]]),
+    (NoRow, brackets, [-1, [(3, 4), (0, 1)]]),
+    (NoSet, brackets, [6, [(3, 4), (0, 1)]]),
+    (NoText, read_brackets, ["(()"]),
+    (NoText, read_row, ["6: 1-2 0-5"]),
+    (NoRow, read_row, ["6: 1-6"]),
 ]
 
 
@@ -207,6 +259,16 @@ class ToldTest(unittest.TestCase):
         kinds = fewest_cuts(row)
         self.assertEqual(row_of_kinds(kinds, row[1], 0)[0], len(kinds))
         self.assertEqual(next_set(row, set_at(row, count_sets(row) - 2)), set_at(row, count_sets(row) - 1))
+        self.assertIs(is_set(row_turned(row), set_turned(row, found)), True)
+        self.assertEqual(read_row(show_row(row)), row)
+        self.assertEqual(read_brackets(brackets(row[0], found)), (row[0], found))
+        self.assertGreater(count_shape(row, shape_of(row, found)), 0)
+        self.assertEqual(row_of_kinds(depths_of(row, found), row[1], 0)[0], len(found))
+        for i, j in stretches_of(row, found):
+            self.assertEqual(most_of(row, i, j)[0], table_of(row)[i][j - i])
+        both = rows_joined(row, row_turned(row))
+        self.assertIs(is_set(both, sets_joined(row, row_turned(row), found, set_turned(row, found))), True)
+        self.assertEqual(Desk().say(f"row {show_row(both)}"), "points 12")
 
 
 class BoundsTest(unittest.TestCase):
@@ -231,6 +293,27 @@ class BoundsTest(unittest.TestCase):
             self.assertEqual((whole_set(row), count_whole(row)), (None, 0))
             self.assertEqual(fewest_cuts(row)[-1], 40)
             self.assertLess(longest_whole(row), (40, 40))
+            self.assertEqual(max(depths_of(row, ties)), depth_of(row, ties))
+            self.assertEqual(nest_of(row, ties).count(None), depths_of(row, ties).count(1))
+            self.assertGreaterEqual(how_many_most(row), count_shape(row, shape_of(row, ties)))
+            self.assertEqual(stretches_of(row, ties)[0][0], 0)
+            self.assertEqual(count_sets(rows_joined(row, row_turned(row))), count_sets(row) ** 2)
+            self.assertEqual(read_row(show_row(row)), row)
+
+    def test_a_desk_with_forty_points_and_three_hundred_ties(self):
+        for row in [large_row(), blocks_row()]:
+            number, ties = most_ties(row)
+            text = brackets(40, ties)
+            desk = Desk()
+            self.assertEqual(desk.say(f"row {show_row(row)}"), "points 40")
+            self.assertEqual(desk.say("sets"), str(count_sets(row)))
+            self.assertEqual(desk.say(f"set {set_number(row, ties)}"), text)
+            self.assertEqual(desk.say(f"number {text}"), str(set_number(row, ties)))
+            self.assertEqual(desk.say("still"), str(number))
+            for a, b in ties:
+                desk.say(f"keep {a}-{b}")
+            self.assertEqual(desk.say("kept"), text)
+            self.assertEqual(desk.say("still"), str(number))
 
     def test_kinds_of_twenty_four_points_with_three_hundred_pairs(self):
         kinds = list(range(24))
@@ -250,6 +333,10 @@ class BoundsTest(unittest.TestCase):
         self.assertEqual(len(greatest_weights(row, [0] * len(row[1]))), 41)
         self.assertEqual(set_number(row, set_at(row, count_sets(row) // 2)), count_sets(row) // 2)
         self.assertEqual(fewest_cuts(row), [80])
+        self.assertEqual(count_shape(row, "()" * 40), 1)
+        self.assertEqual(shape_of(row, most_ties(row)[1]), "()" * 40)
+        self.assertEqual(row_turned(row), row)
+        self.assertEqual(rows_joined(row, row)[0], 160)
 
 
 def kinds_in(thing):

@@ -10,6 +10,7 @@ from archrow.kinds import best_kinds, most_of_kinds, most_with, row_of_kinds
 from archrow.weights import heaviest
 from archrow.whole import whole_set
 from plainly import all_sets, best_sets, first_best, most_and_count
+from refusing import RefusalTest
 
 FAR = 10 ** 29
 GREATEST = 10 ** 30 - 1
@@ -61,13 +62,6 @@ def great_kinds(seed):
     pairs = [(chance.randrange(12), chance.randrange(12, 500)) for k in range(270)]
     pairs += [(chance.randrange(12), chance.randrange(12)) for k in range(30)]
     return kinds, pairs
-
-
-class RefusalTest(unittest.TestCase):
-    def refuses(self, wrong, deed, *given):
-        with self.assertRaises(wrong) as caught:
-            deed(*given)
-        self.assertIs(type(caught.exception), wrong, given)
 
 
 class RowTest(RefusalTest):

@@ -9,6 +9,7 @@ from plainly import (
     a_row, all_rows, all_sets, blocks_row, clash, large_row, rule_of_papers, small_rows, some_weights, weight_of,
     weights_plainly, within,
 )
+from refusing import RefusalTest
 
 FAR = 10 ** 29
 GREATEST = 10 ** 30 - 1
@@ -74,13 +75,6 @@ def heaviest_by_taking(row, weights):
             held.append(tie)
             left = rest
     return (greatest[0], held)
-
-
-class RefusalTest(unittest.TestCase):
-    def refuses(self, wrong, deed, *given):
-        with self.assertRaises(wrong) as caught:
-            deed(*given)
-        self.assertIs(type(caught.exception), wrong, given)
 
 
 class HeaviestTest(RefusalTest):

@@ -4,7 +4,7 @@ from itertools import combinations
 from archrow.arcs import is_set
 from archrow.kept import most_of, most_ties
 from archrow.whole import count_whole, fewest_cuts, longest_whole, whole_set
-from plainly import a_row, all_rows, all_sets, blocks_row, large_row, most_and_count, small_rows, within
+from plainly import a_row, all_rows, all_sets, blocks_row, full_row, large_row, most_and_count, small_rows, within
 
 CATALAN = [1, 1, 2, 5, 14, 42, 132, 429, 1430, 4862, 16796, 58786, 208012]
 
@@ -46,11 +46,6 @@ def cuts_plainly(row):
             if all(stretch in fine for stretch in zip([0] + ends, ends)):
                 return ends
     raise AssertionError("single points always do")
-
-
-def full_row(many):
-    """A row with a tie between any two points."""
-    return (many, list(combinations(range(many), 2)))
 
 
 class WholeSetTest(unittest.TestCase):
